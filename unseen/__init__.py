@@ -1,0 +1,1 @@
+"""Unseen: two who put down a card at the same time."""

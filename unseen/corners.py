@@ -1,0 +1,104 @@
+"""What mixtures get, and the corners of what a mixture of columns can hold the rows to.
+
+Nothing is checked here, so that numbers beyond the bounds of a table (differences of rows, say) serve as well.
+"""
+
+from unseen.fractions import below, made, plus, times
+
+
+def weighed(values, mixture):
+    total = (0, 1)
+    for value, share in zip(values, mixture):
+        total = plus(total, times(value, share))
+    return total
+
+
+def row_gets(row, mixture):
+    return weighed([(number, 1) for number in row], mixture)
+
+
+def greatest(values):
+    most = values[0]
+    for value in values:
+        if below(most, value):
+            most = value
+    return most
+
+
+# A table has 4 columns at the most, so unfolding by the first row stays short and needs no division.
+def determinant(square):
+    if len(square) == 0:
+        return 1
+    total = 0
+    sign = 1
+    for column in range(len(square)):
+        rest = [row[:column] + row[column + 1:] for row in square[1:]]
+        total = total + sign * square[0][column] * determinant(rest)
+        sign = -sign
+    return total
+
+
+def with_column(square, column, numbers):
+    return [row[:column] + [number] + row[column + 1:] for row, number in zip(square, numbers)]
+
+
+# The one answer to the equations as a list of fractions, or None where there is none or more than one.
+def solution(square, numbers):
+    whole = determinant(square)
+    if whole == 0:
+        return None
+    sign = 1 if whole > 0 else -1
+    parts = [determinant(with_column(square, column, numbers)) for column in range(len(square))]
+    return [made(sign * part, sign * whole) for part in parts]
+
+
+def choices(count):
+    found = [[]]
+    for place in range(count):
+        found = found + [chosen + [place] for chosen in found]
+    return found
+
+
+def spread(shares, places, count):
+    mixture = [(0, 1)] * count
+    for share, place in zip(shares, places):
+        mixture[place] = share
+    return mixture
+
+
+# The unknowns are a share for each of the columns and, last, the number that each of the rows gets.
+def level(table, rows, columns):
+    equations = []
+    for row in rows:
+        equations.append([table[row][column] for column in columns] + [-1])
+    equations.append([1] * len(columns) + [0])
+    return solution(equations, [0] * len(rows) + [1])
+
+
+# Shares of nought are left out: such a corner is found where just the columns with a share are chosen.
+def corner(table, rows, columns):
+    answer = level(table, rows, columns)
+    if answer is None:
+        return None
+    number = answer[-1]
+    if not all([below((0, 1), share) for share in answer[:-1]]):
+        return None
+    mixture = spread(answer[:-1], columns, len(table[0]))
+    if any([below(number, row_gets(row, mixture)) for row in table]):
+        return None
+    return (mixture, number)
+
+
+# All corners of the mixtures of columns with the numbers that no row gets more than.
+# The least number that a mixture can hold the rows to, and mixtures from which neither would turn,
+# are always found at corners, so later questions need to look nowhere else.
+def corners_of(table):
+    found = []
+    for columns in choices(len(table[0])):
+        for rows in choices(len(table)):
+            if len(rows) == len(columns):
+                place = corner(table, rows, columns)
+                # Where more rows than needed get the number, several choices come to one corner.
+                if place is not None and place not in found:
+                    found.append(place)
+    return found
