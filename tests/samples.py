@@ -1,8 +1,11 @@
 """What several tests ask with: tables and mixtures as they should be, and things that are none."""
 
 import copy
+import math
 import random
 from fractions import Fraction
+
+from unseen.answers import Answer
 
 GOOD_TABLES = [
     [[0]],
@@ -105,13 +108,132 @@ def random_tables(seed, times, most=100):
         yield random_table(chance, chance.randint(1, 4), chance.randint(1, 4), most)
 
 
+def all_counts():
+    """Every count of rows and columns."""
+    return [(rows, columns) for rows in range(1, 5) for columns in range(1, 5)]
+
+
+def with_alike(chance, table):
+    """The table with a row or a column put over another one, so that two are alike."""
+    table = copy.deepcopy(table)
+    if chance.random() < 0.5:
+        table[chance.randrange(len(table))] = list(chance.choice(table))
+    else:
+        place, source = chance.randrange(len(table[0])), chance.randrange(len(table[0]))
+        for row in table:
+            row[place] = row[source]
+    return table
+
+
+def with_blend(chance, table):
+    """The table with a row that comes to the half of two others, where that is whole."""
+    table = copy.deepcopy(table)
+    one, other = chance.choice(table), chance.choice(table)
+    table[chance.randrange(len(table))] = [(a + b) // 2 for a, b in zip(one, other)]
+    return table
+
+
+def many_tables(seed, times):
+    """`times` tables of each count of rows and columns, most of them with numbers from -1 to 1."""
+    chance = random.Random(seed)
+    for rows, columns in all_counts():
+        for turn in range(times):
+            table = random_table(chance, rows, columns, chance.choice((1, 1, 1, 1, 1, 2, 5, 100)))
+            change = chance.choice((None, None, None, None, with_alike, with_blend))
+            yield change(chance, table) if change else table
+
+
+def many_pairs(seed, times):
+    """`times` pairs of tables of each count; some for and against, some of one number, some the same twice."""
+    chance = random.Random(seed)
+    for one in many_tables(seed, times):
+        rows, columns = len(one), len(one[0])
+        other = random_table(chance, rows, columns, chance.choice((1, 1, 1, 1, 2, 5, 100)))
+        against = [[-number for number in row] for row in one]
+        even = [[chance.randint(-1, 1)] * columns for row in range(rows)]
+        yield chance.choice(((one, other),) * 8 + ((one, against), (one, copy.deepcopy(one)), (one, even), (even, one)))
+
+
+def tables_of(rows, columns, numbers):
+    """Every table of these counts with just these numbers."""
+    found = [[]]
+    for place in range(rows * columns):
+        found = [line + [number] for line in found for number in numbers]
+    return [[line[row * columns:(row + 1) * columns] for row in range(rows)] for line in found]
+
+
+def is_told_fraction(thing):
+    """A tuple of two whole numbers in lowest terms, the lower one above 0."""
+    if type(thing) is not tuple or [type(part) for part in thing] != [int, int]:
+        return False
+    return thing[1] > 0 and math.gcd(*thing) == 1
+
+
+def is_told_mixture(thing, count):
+    if type(thing) is not list or len(thing) != count or not all(is_told_fraction(share) for share in thing):
+        return False
+    shares = [Fraction(*share) for share in thing]
+    return min(shares) >= 0 and sum(shares) == 1
+
+
+def by_columns(table, mine):
+    """What a mixture of rows gets by each column."""
+    return [sum(Fraction(*share) * row[column] for row, share in zip(table, mine)) for column in range(len(table[0]))]
+
+
+def by_rows(table, theirs):
+    """What each row gets by a mixture of columns."""
+    return [sum(Fraction(*share) * number for number, share in zip(row, theirs)) for row in table]
+
+
+def is_solved(table, value, mine, theirs):
+    """Whether it is as [3] tells, reckoned here."""
+    if not (is_told_mixture(mine, len(table)) and is_told_mixture(theirs, len(table[0]))):
+        return False
+    return min(by_columns(table, mine)) >= Fraction(*value) >= max(by_rows(table, theirs))
+
+
+def is_settled(one, other, mine, theirs):
+    """Whether it is as [6] tells, reckoned here."""
+    if not (is_told_mixture(mine, len(one)) and is_told_mixture(theirs, len(one[0]))):
+        return False
+    rows, columns = by_rows(one, theirs), by_columns(other, mine)
+    return (all(gain == max(rows) for gain, share in zip(rows, mine) if share[0] > 0)
+            and all(gain == max(columns) for gain, share in zip(columns, theirs) if share[0] > 0))
+
+
+def is_beaten(table, row, mixture):
+    """Whether it is as [7] tells of a mixture that beats, reckoned here."""
+    if not is_told_mixture(mixture, len(table)) or mixture[row] != (0, 1):
+        return False
+    return all(gain > number for gain, number in zip(by_columns(table, mixture), table[row]))
+
+
+def is_best(table, row, mixture):
+    """Whether it is as [7] tells of a mixture to which the row is a best answer, reckoned here."""
+    if not is_told_mixture(mixture, len(table[0])):
+        return False
+    gains = by_rows(table, mixture)
+    return gains[row] == max(gains)
+
+
+def parts_of(thing):
+    if isinstance(thing, Answer):
+        return list(vars(thing).values())
+    return list(thing) if isinstance(thing, (list, tuple)) else []
+
+
+def plain(thing):
+    """What is told, as what can be compared and is not changed with it."""
+    if isinstance(thing, Answer):
+        return (type(thing), plain(vars(thing)))
+    return copy.deepcopy(thing)
+
+
 def lists_within(thing):
-    """The identities of all lists in what is told, at any depth."""
-    if isinstance(thing, list):
-        return [id(thing)] + [one for part in thing for one in lists_within(part)]
-    if isinstance(thing, tuple):
-        return [one for part in thing for one in lists_within(part)]
-    return []
+    """The identities of all lists in what is told, at any depth, also in the fields of an answer."""
+    own = [id(thing)] if isinstance(thing, list) else []
+    return own + [one for part in parts_of(thing) for one in lists_within(part)]
 
 
 class Asks:
@@ -125,23 +247,28 @@ class Asks:
 
     def leaves_alone(self, ask, *things):
         """What is handed in stays as it was, and no list of it or of an earlier answer is told."""
+        things = copy.deepcopy(things)
         before = copy.deepcopy(things)
         first = ask(*things)
         second = ask(*things)
+        told = plain(second)
         self.assertEqual(things, before)
-        self.assertEqual(first, second)
+        self.assertEqual(plain(first), told)
         # The same list may be handed in twice, but each told one stands alone.
-        told = lists_within(first) + lists_within(second)
-        self.assertEqual(len(set(told)), len(told))
-        self.assertEqual(set(told) & set(lists_within(things)), set())
+        lists = lists_within(first) + lists_within(second)
+        self.assertEqual(len(set(lists)), len(lists))
+        self.assertEqual(set(lists) & set(lists_within(things)), set())
         spoil(first)
         self.assertEqual(things, before)
-        self.assertEqual(ask(*things), second)
+        self.assertEqual(plain(second), told)
+        self.assertEqual(plain(ask(*things)), told)
+        # What was told does not follow what is done to the things handed in.
+        spoil(things)
+        self.assertEqual(plain(second), told)
 
 
 def spoil(thing):
-    if isinstance(thing, (list, tuple)):
-        for part in thing:
-            spoil(part)
+    for part in parts_of(thing):
+        spoil(part)
     if isinstance(thing, list):
         thing.append("spoilt")

@@ -24,14 +24,48 @@ WORDS = re.compile(r"\b(type|typing|typing_extensions|enum|Enum|IntEnum|StrEnum|
                    r"|namedtuple|NamedTuple|TypedDict|TYPE_CHECKING|abstractmethod)\b|dataclass|overload|contextmanager")
 
 
-def bound_names(tree):
+# Own values may not be called like what Python's own values have, apart from these.
+FREE_VALUES = set("count index title find get join lower upper split strip copy add".split())
+CHANGES = set("append clear extend insert pop remove reverse setdefault update".split())
+
+
+def trees():
+    return {path.stem: ast.parse(path.read_text(encoding="ascii")) for path in FILES}
+
+
+def local_names(tree):
+    """Parameters and what is given a value within a function."""
     for node in ast.walk(tree):
-        if isinstance(node, (ast.FunctionDef, ast.ClassDef)):
-            yield node.name
-        elif isinstance(node, ast.arg):
+        if isinstance(node, ast.arg):
             yield node.arg
         elif isinstance(node, ast.Name) and isinstance(node.ctx, ast.Store):
             yield node.id
+
+
+def bound_names(tree):
+    yield from local_names(tree)
+    for node in ast.walk(tree):
+        if isinstance(node, (ast.FunctionDef, ast.ClassDef)) and node.name != "__init__":
+            yield node.name
+
+
+def imported(tree):
+    return [alias.asname or alias.name for node in ast.walk(tree) if isinstance(node, ast.ImportFrom)
+            for alias in node.names]
+
+
+def classes(tree):
+    return [node for node in tree.body if isinstance(node, ast.ClassDef)]
+
+
+def own_methods():
+    return {part.name for tree in trees().values() for one in classes(tree) for part in one.body
+            if isinstance(part, ast.FunctionDef)}
+
+
+def own_values():
+    return {node.attr for tree in trees().values() for node in ast.walk(tree)
+            if isinstance(node, ast.Attribute) and isinstance(node.ctx, ast.Store)}
 
 
 class TestForm(unittest.TestCase):
@@ -98,7 +132,82 @@ class TestForm(unittest.TestCase):
             if isinstance(node, ast.Name) and hasattr(builtins, node.id):
                 self.assertIn(node.id, OWN_NAMES)
             if isinstance(node, ast.Attribute):
-                self.assertIn(node.attr, METHODS)
+                self.assertIn(node.attr, METHODS | own_methods() | own_values())
+
+    def test_no_local_is_called_like_an_import_or_a_class(self):
+        self.in_each(self.check_locals)
+
+    def check_locals(self, text, tree):
+        taken = set(imported(tree)) | {one.name for one in classes(tree)}
+        self.assertEqual(taken & set(local_names(tree)), set())
+        self.assertEqual(len(set(imported(tree))), len(imported(tree)))
+
+    def test_each_name_is_bound_once_at_the_top(self):
+        self.in_each(self.check_top)
+
+    def check_top(self, text, tree):
+        names = imported(tree)
+        for node in tree.body:
+            self.assertIsInstance(node, (ast.Expr, ast.ImportFrom, ast.FunctionDef, ast.ClassDef, ast.Assign))
+            if isinstance(node, (ast.FunctionDef, ast.ClassDef)):
+                names.append(node.name)
+            if isinstance(node, ast.Assign):
+                names.append(node.targets[0].id)
+        self.assertEqual(len(set(names)), len(names))
+
+    def test_every_import_is_used_and_comes_from_the_file_that_defines_it(self):
+        defined = {name: {node.name for node in tree.body if isinstance(node, (ast.FunctionDef, ast.ClassDef))}
+                   | {node.targets[0].id for node in tree.body if isinstance(node, ast.Assign)}
+                   for name, tree in trees().items()}
+        for name, tree in trees().items():
+            used = {node.id for node in ast.walk(tree) if isinstance(node, ast.Name)}
+            for node in ast.walk(tree):
+                if isinstance(node, ast.ImportFrom):
+                    for alias in node.names:
+                        self.assertIn(alias.name, defined[node.module.split(".")[1]])
+                        self.assertIn(alias.name, used, name)
+
+    def test_no_two_files_draw_from_one_another(self):
+        left = {name: {node.module.split(".")[1] for node in ast.walk(tree) if isinstance(node, ast.ImportFrom)}
+                for name, tree in trees().items()}
+        while left:
+            free = [name for name, drawn in left.items() if not drawn & set(left)]
+            self.assertNotEqual(free, [], left)
+            for name in free:
+                del left[name]
+
+    def test_classes(self):
+        kinds = (str, int, list, dict, set, bytes, tuple)
+        python = {name for kind in kinds for name in dir(kind)}
+        self.assertEqual(own_methods() & own_values(), set())
+        self.assertEqual((own_methods() - {"__init__"}) & (python - METHODS), set())
+        self.assertEqual(own_values() & (python - FREE_VALUES), set())
+        for tree in trees().values():
+            for one in classes(tree):
+                self.assertLessEqual(len(one.bases), 1)
+                self.assertEqual(one.keywords, [])
+                for part in one.body:
+                    self.assertIsInstance(part, (ast.FunctionDef, ast.Pass))
+
+    def test_what_a_loop_walks_is_not_changed_in_it(self):
+        self.in_each(self.check_loops)
+
+    def check_loops(self, text, tree):
+        for loop in ast.walk(tree):
+            if isinstance(loop, ast.For):
+                walked = {node.id for node in ast.walk(loop.iter) if isinstance(node, ast.Name)}
+                for node in ast.walk(loop):
+                    if isinstance(node, ast.Attribute) and node.attr in CHANGES and isinstance(node.value, ast.Name):
+                        self.assertNotIn(node.value.id, walked)
+                    if isinstance(node, ast.Subscript) and isinstance(node.ctx, ast.Store):
+                        self.assertNotIn(node.value.id, walked)
+
+    def test_no_clock_chance_or_file(self):
+        self.in_each(self.check_calls)
+
+    def check_calls(self, text, tree):
+        for name in ("open", "print", "input", "random", "time", "sys", "os", "exec", "eval", "compile", "float"):
+            self.assertNotIn(name, {node.id for node in ast.walk(tree) if isinstance(node, ast.Name)})
 
 
 if __name__ == "__main__":

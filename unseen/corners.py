@@ -17,6 +17,10 @@ def row_gets(row, mixture):
     return weighed([(number, 1) for number in row], mixture)
 
 
+def all_get(rows, mixture):
+    return [row_gets(row, mixture) for row in rows]
+
+
 def greatest(values):
     most = values[0]
     for value in values:
@@ -66,37 +70,37 @@ def spread(shares, places, count):
     return mixture
 
 
-# The unknowns are a share for each of the columns and, last, the number that each of the rows gets.
+# The shares of the columns by which each of the rows gets the same number, whatever it is: it is left out
+# of the unknowns by asking that no row gets more or less than the first.
 def level(table, rows, columns):
-    equations = []
-    for row in rows:
-        equations.append([table[row][column] for column in columns] + [-1])
-    equations.append([1] * len(columns) + [0])
-    return solution(equations, [0] * len(rows) + [1])
+    first = table[rows[0]]
+    equations = [[1] * len(columns)]
+    for row in rows[1:]:
+        equations.append([table[row][column] - first[column] for column in columns])
+    return solution(equations, [1] + [0] * (len(rows) - 1))
 
 
 # Shares of nought are left out: such a corner is found where just the columns with a share are chosen.
 def corner(table, rows, columns):
-    answer = level(table, rows, columns)
-    if answer is None:
+    shares = level(table, rows, columns)
+    if shares is None or not all([below((0, 1), share) for share in shares]):
         return None
-    number = answer[-1]
-    if not all([below((0, 1), share) for share in answer[:-1]]):
-        return None
-    mixture = spread(answer[:-1], columns, len(table[0]))
-    if any([below(number, row_gets(row, mixture)) for row in table]):
+    mixture = spread(shares, columns, len(table[0]))
+    gains = all_get(table, mixture)
+    number = gains[rows[0]]
+    if any([below(number, gain) for gain in gains]):
         return None
     return (mixture, number)
 
 
 # All corners of the mixtures of columns with the numbers that no row gets more than.
 # The least number that a mixture can hold the rows to, and mixtures from which neither would turn,
-# are always found at corners, so later questions need to look nowhere else.
+# are always found at corners, so there is no need to look anywhere else.
 def corners_of(table):
     found = []
     for columns in choices(len(table[0])):
         for rows in choices(len(table)):
-            if len(rows) == len(columns):
+            if 0 < len(rows) == len(columns):
                 place = corner(table, rows, columns)
                 # Where more rows than needed get the number, several choices come to one corner.
                 if place is not None and place not in found:

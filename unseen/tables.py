@@ -1,6 +1,6 @@
-"""One table: what is got by mixtures, best answers, what cards alone are sure of, tables turned and together."""
+"""What is got by mixtures, best answers, what cards alone are sure of, tables turned and together."""
 
-from unseen.corners import greatest, row_gets, weighed
+from unseen.corners import all_get, greatest, weighed
 from unseen.errors import BadMixture, BadTable, Unlike
 from unseen.fractions import below, is_fraction, is_whole, plus
 
@@ -52,19 +52,35 @@ def check_mixture(thing, count):
         raise BadMixture("a mixture is a list of a fraction from 0 on for each card, together 1")
 
 
+def of_same_counts(one, other):
+    return len(one) == len(other) and len(one[0]) == len(other[0])
+
+
+def check_alike(one, other):
+    check_table(one)
+    check_table(other)
+    if not of_same_counts(one, other):
+        raise Unlike("both tables have as many rows and columns")
+
+
 def got(table, mine, theirs):
     check_table(table)
     check_mixture(mine, len(table))
     check_mixture(theirs, len(table[0]))
-    return weighed([row_gets(row, theirs) for row in table], mine)
+    return weighed(all_get(table, theirs), mine)
+
+
+# Not checked: an answer shows whether it is so of a table beyond the bounds too.
+def best_rows(table, theirs):
+    gains = all_get(table, theirs)
+    most = greatest(gains)
+    return ([place for place, gain in enumerate(gains) if gain == most], most)
 
 
 def best(table, theirs):
     check_table(table)
     check_mixture(theirs, len(table[0]))
-    gains = [row_gets(row, theirs) for row in table]
-    most = greatest(gains)
-    return ([place for place, gain in enumerate(gains) if gain == most], most)
+    return best_rows(table, theirs)
 
 
 def column_of(table, column):
@@ -75,12 +91,17 @@ def columns_of(table):
     return [column_of(table, column) for column in range(len(table[0]))]
 
 
-def turned(table):
-    check_table(table)
+# Not checked, so that a table of differences, with numbers beyond the bounds, can be seen so too.
+def from_other_side(table):
     found = []
     for column in columns_of(table):
         found.append([-number for number in column])
     return found
+
+
+def turned(table):
+    check_table(table)
+    return from_other_side(table)
 
 
 def sums(one, other):
